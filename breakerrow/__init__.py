@@ -1,0 +1,1 @@
+"""Breakerrow: circuit breakers in a row."""
