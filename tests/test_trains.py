@@ -126,8 +126,8 @@ class InvalidLists(Case):
                 self.assert_error(InvalidTrains, {"at": -1}, Trains, value)
 
     def test_no_train(self):
-        for item in (None, 0, True, "abc", b"abc", [0, 1, 1], [], (), (0,), (0, 1), (0, 1, 1, 1), {}, {0, 1, 2}, object(),
-                     Trains([]), (-1, 1, 1), (0, 0, 1), (0, -1, 1), (0, 1, 0), (0, 1, -1), (-1, 1, None),
+        for item in (None, 0, True, "abc", b"abc", [0, 1, 1], [], (), (0,), (0, 1), (0, 1, 1, 1), {}, {0, 1, 2},
+                     object(), Trains([]), (-1, 1, 1), (0, 0, 1), (0, -1, 1), (0, 1, 0), (0, 1, -1), (-1, 1, None),
                      (0, 0, None), ((0, 1, 1),)):
             with self.subTest(item=item):
                 self.assert_error(InvalidTrains, {"at": 0}, Trains, [item])
