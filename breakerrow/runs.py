@@ -59,6 +59,61 @@ def thinned_run(train, wait, time):
     return [(start + skipped * step, stride * step, steps_to(count - skipped, stride))]
 
 
+def window_runs(trains, first, after):
+    """Return the trains of the times of some trains from first to after - 1."""
+    return [part for train in trains for part in window_of(train, first, after)]
+
+
+def thinned_runs(trains, wait, time):
+    """Return the trains of what a breaker passes that has opened at a time, if all that it passes fails."""
+    passed = []
+    opened = time
+    for train in trains:
+        part = thinned_run(train, wait, opened + wait)
+        passed.extend(part)
+        # This is None behind a train without end, which is the last one.
+        if part:
+            opened = last_time(part[0])
+    return passed
+
+
+def divided_runs(trains, count):
+    """Return the trains of the first so many times of some trains that have as many, and those of the others."""
+    head = []
+    tail = []
+    left = count
+    for train in trains:
+        taken = left if train[2] is None else min(left, train[2])
+        head.extend(part_of(train, 0, taken))
+        tail.extend(part_of(train, taken, train[2]))
+        left = left - taken
+    return head, tail
+
+
+def number_before(trains, time):
+    """Return how many times of some trains are before a time."""
+    return sum([times_before(train, time) for train in trains])
+
+
+def time_from(trains, time):
+    """Return the first time of some trains that is not before a time, None if there is none."""
+    for train in trains:
+        before = times_before(train, time)
+        if train[2] is None or before < train[2]:
+            return train[0] + before * train[1]
+    return None
+
+
+def time_until(trains, time):
+    """Return the last time of some trains that is not behind a time, None if there is none."""
+    latest = None
+    for train in trains:
+        reached = times_before(train, time + 1)
+        if reached > 0:
+            latest = train[0] + (reached - 1) * train[1]
+    return latest
+
+
 def joined(train, following):
     """Return the one or two trains of the normal form of two trains, the first of which has an end."""
     start, step, count = train

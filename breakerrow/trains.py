@@ -1,8 +1,8 @@
 """Trains: times in order, as a few arithmetic sequences."""
 
 from breakerrow.errors import InvalidBound, InvalidIndex, InvalidTime, InvalidTrains, LimitExceeded
-from breakerrow.runs import (counts_ahead, is_train, last_time, meetings, normal_form, thinned_run, times_before,
-                             total_count, window_of)
+from breakerrow.runs import (counts_ahead, is_train, last_time, meetings, normal_form, thinned_runs, times_before,
+                             total_count, window_runs)
 from breakerrow.wholes import count_below, is_at_least
 
 MOST_TRAINS = 1000
@@ -113,7 +113,7 @@ def window(trains, first, after):
         raise InvalidBound("first")
     if after is not None and not is_at_least(after, first):
         raise InvalidBound("after")
-    return Trains([part for run in trains.runs for part in window_of(run, first, after)])
+    return Trains(window_runs(trains.runs, first, after))
 
 
 def split_after(trains, count):
@@ -132,15 +132,7 @@ def thinned(trains, wait, time):
         raise InvalidBound("wait")
     if not is_at_least(time, 0):
         raise InvalidTime(time)
-    passed = []
-    opened = time
-    for run in trains.runs:
-        part = thinned_run(run, wait, opened + wait)
-        passed.extend(part)
-        # This is None behind a train without end, which is the last one.
-        if part:
-            opened = last_time(part[0])
-    return Trains(passed)
+    return Trains(thinned_runs(trains.runs, wait, time))
 
 
 def shared(one, other):

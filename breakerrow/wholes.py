@@ -39,6 +39,14 @@ def count_below(numbers, bound):
     return low
 
 
+def common_divisor(one, other):
+    """Return the greatest common divisor of an integer from 1 on and one from 0 on."""
+    divisor, rest = one, other
+    while rest > 0:
+        divisor, rest = rest, divisor % rest
+    return divisor
+
+
 def divisor_and_factor(one, other):
     """Return the greatest common divisor of two integers from 1 on, and a factor for the first one.
 

@@ -1,7 +1,11 @@
-"""The example sessions of the document for rows and trains, as they stand there."""
+"""The example sessions of the document for what has been built, as they stand there."""
 
-from breakerrow.errors import InvalidBound, InvalidIndex, InvalidRow, InvalidTrains
-from breakerrow.rows import Row, first_request, least_period, periods, raised, slack
+from breakerrow.delays import Delays, count_within, first_above, greatest_delay, mean_delay, settled, total_delay
+from breakerrow.errors import InvalidBound, InvalidIndex, InvalidOutages, InvalidRow, InvalidTime, InvalidTrains
+from breakerrow.orders import best_order, best_raise, harmful_lowerings, removal_periods, reordered, worst_order
+from breakerrow.outages import Timeline, arrivals, first_success, openings, spell_at, starts
+from breakerrow.rows import Row, first_request, least_period, periods, raised, row_period, slack
+from breakerrow.states import came, failed, outcome, rejected, states_at, succeeded, time_open
 from breakerrow.trains import (Trains, count_before, latest_time, next_time, shared, split_after, thinned, time_count,
                                window)
 from tests.support import Case
@@ -80,3 +84,98 @@ class TrainsOfTheDocument(Case):
 
     def test_e218(self):
         self.assert_error(InvalidTrains, {"at": -1}, lambda: self.t + self.t)
+
+
+class Orders(Case):
+
+    def test_e04(self):
+        row = Row([(2, 3, 1), (1, 4, 1)], 1)
+        self.assertEqual([best_order(row), worst_order(row), row_period(reordered(row, [1, 0])), removal_periods(row),
+                          best_raise(row, 0, 9)], [(4, [1, 0]), (6, [0, 1]), 4, [4, 3], (4, 4)])
+
+    def test_e05(self):
+        self.assertEqual(harmful_lowerings(Row([(1, 4, 1), (1, 4, 1)], 1), 0), [(3, 3)])
+
+
+class Outages(Case):
+
+    def setUp(self):
+        super().setUp()
+        self.row = Row([(2, 3, 1), (1, 4, 1)], 1)
+        self.t = Timeline(self.row, [(10, 25)])
+        self.slow = Timeline(Row([(1, 5, 3)], 2), [(0, 4), (8, 9)])
+
+    def test_e301(self):
+        self.assertEqual([self.t[0], self.slow[0], self.slow[1], len(self.slow)],
+                         [(10, 26, 26), (0, 6, None), (8, 14, 18), 2])
+
+    def test_e302(self):
+        self.assertEqual([spell_at(self.t, 25), first_success(self.t, 9), first_success(self.t, 12)], [0, 9, 26])
+
+    def test_e303(self):
+        self.assertEqual([arrivals(self.t, 0, 1).train_list(), arrivals(self.t, 0, 2).train_list()],
+                         [[(10, 1, 2), (14, 3, 4)], [(10, 4, 2), (20, 1, 1)]])
+
+    def test_e304(self):
+        self.assertEqual([openings(self.t, 0), starts(self.slow, 1)], [[11, 10], [("half", 1)]])
+
+    def test_e305(self):
+        self.assert_error(InvalidOutages, {"at": 1}, lambda: Timeline(Row([], 1), [(0, 4), (4, 9)]))
+
+
+class DelaysOfTheDocument(Case):
+
+    def setUp(self):
+        super().setUp()
+        self.d = Delays(Row([(2, 3, 1), (1, 4, 1)], 1), [], 10)
+
+    def test_e306(self):
+        self.assertEqual([self.d[11], self.d[25], greatest_delay(self.d, 11, 30), first_above(self.d, 3, 11)],
+                         [3, 1, (5, 15), 15])
+
+    def test_e307(self):
+        self.assertEqual([total_delay(self.d, 11, 20), mean_delay(self.d, 11, 20), count_within(self.d, 1, 11, 20),
+                          settled(self.d)], [21, (21, 10), 4, (14, 6)])
+
+    def test_e308(self):
+        self.assert_error(InvalidTime, {"time": 10}, lambda: self.d[10])
+
+
+class States(Case):
+
+    def setUp(self):
+        super().setUp()
+        self.tl = Timeline(Row([(3, 5, 2)], 1), [(10, 20)])
+
+    def test_e219(self):
+        self.assertEqual(states_at(self.tl, 11), [("closed", 2)])
+
+    def test_e220(self):
+        self.assertEqual(states_at(self.tl, 18), [("open", 17)])
+
+    def test_e221(self):
+        self.assertEqual(states_at(self.tl, 22), [("half", 1)])
+
+    def test_e222(self):
+        self.assertEqual(came(self.tl, 1, 10, 23), 5)
+
+    def test_e223(self):
+        self.assertEqual(rejected(self.tl, 0, 10, 23), 8)
+
+    def test_e224(self):
+        self.assert_error(InvalidIndex, {"index": 1}, rejected, self.tl, 1, 10, 23)
+
+    def test_e225(self):
+        self.assertEqual(failed(self.tl, 10, 23), 12)
+
+    def test_e226(self):
+        self.assertEqual(succeeded(self.tl, 10, 23), 1)
+
+    def test_e227(self):
+        self.assertEqual(outcome(self.tl, 17), ("failed",))
+
+    def test_e228(self):
+        self.assertEqual(outcome(self.tl, 18), ("rejected", 0))
+
+    def test_e229(self):
+        self.assertEqual(time_open(self.tl, 0, 0, 100), 10)
