@@ -12,9 +12,8 @@ class Row:
     """A row of circuit breakers and the times at which requests come to it."""
 
     def __init__(self, breakers, step, *, phase=0):
-        check_breakers(breakers)
-        if not is_within(step, 1, MOST_TIME):
-            raise InvalidRow("step", -1)
+        check_breakers(breakers, "breakers")
+        check_step(step)
         if not is_within(phase, 0, MOST_TIME):
             raise InvalidRow("phase", -1)
         self.breakers = tuple(breakers)
@@ -67,13 +66,19 @@ def is_breaker(value):
             and is_within(successes, 1, MOST_COUNT))
 
 
-def check_breakers(breakers):
-    """Raise an error if a value is not a list of breakers for a row."""
+def check_breakers(breakers, part):
+    """Raise an error with the name of a part if a value is not a list of breakers."""
     if not isinstance(breakers, list) or len(breakers) > MOST_BREAKERS:
-        raise InvalidRow("breakers", -1)
+        raise InvalidRow(part, -1)
     for at, breaker in enumerate(breakers):
         if not is_breaker(breaker):
-            raise InvalidRow("breakers", at)
+            raise InvalidRow(part, at)
+
+
+def check_step(step):
+    """Raise an error if a value is not the distance between two requests."""
+    if not is_within(step, 1, MOST_TIME):
+        raise InvalidRow("step", -1)
 
 
 def request_time(row, number):

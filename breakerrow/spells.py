@@ -2,6 +2,7 @@
 
 from breakerrow.rows import first_request, request_time
 from breakerrow.runs import divided_runs, last_time, number_before, thinned_runs, time_from, time_until
+from breakerrow.sending import closed_states
 
 
 class Spell:
@@ -21,11 +22,6 @@ class Spell:
         self.opened = opened
 
 
-def closed_states(row):
-    """Return the states of the breakers before all requests."""
-    return [("closed", 0)] * len(row)
-
-
 def spells_of(row, outages):
     """Return the list of the spells of a row with some outages, of which the last one may have None as its end."""
     spells = []
@@ -37,7 +33,7 @@ def spells_of(row, outages):
             # No request meets this outage.
             at += 1
         else:
-            begun = states_behind(row, spells[-1], first - 1) if spells else closed_states(row)
+            begun = states_behind(row, spells[-1], first - 1) if spells else closed_states(len(row))
             spell, at = spell_from(row, first, begun, outages, at)
             spells.append(spell)
     return spells

@@ -4,7 +4,8 @@ from breakerrow.errors import InvalidBound, InvalidIndex, InvalidTime
 from breakerrow.outages import latest_spell, spell_at
 from breakerrow.rows import first_request
 from breakerrow.runs import number_before
-from breakerrow.spells import closed_states, state_within, states_behind
+from breakerrow.sending import closed_states
+from breakerrow.spells import state_within, states_behind
 from breakerrow.wholes import is_at_least, is_within
 
 
@@ -28,7 +29,7 @@ def states_at(timeline, time):
         raise InvalidTime(time)
     latest = latest_spell(timeline, time)
     if latest is None:
-        return closed_states(timeline.row)
+        return closed_states(len(timeline.row))
     spell = timeline.spells[latest]
     if time >= spell.recovered:
         return states_behind(timeline.row, spell, time)

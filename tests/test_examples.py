@@ -1,11 +1,16 @@
-"""The example sessions of the document for what has been built, as they stand there."""
+"""The example sessions of the document, as they stand there."""
 
 from breakerrow.delays import Delays, count_within, first_above, greatest_delay, mean_delay, settled, total_delay
-from breakerrow.errors import InvalidBound, InvalidIndex, InvalidOutages, InvalidRow, InvalidTime, InvalidTrains
+from breakerrow.errors import (InvalidBound, InvalidCall, InvalidIndex, InvalidLog, InvalidOutages, InvalidRow,
+                               InvalidText, InvalidTime, InvalidTrains)
+from breakerrow.explained import explanations, first_conflict, forecast, log_of, waits_of
 from breakerrow.orders import best_order, best_raise, harmful_lowerings, removal_periods, reordered, worst_order
 from breakerrow.outages import Timeline, arrivals, first_success, openings, spell_at, starts
+from breakerrow.playing import Playing, outcomes, replay
+from breakerrow.routes import Routes, common_openings, first_opening, longest_failure, served
 from breakerrow.rows import Row, first_request, least_period, periods, raised, row_period, slack
 from breakerrow.states import came, failed, outcome, rejected, states_at, succeeded, time_open
+from breakerrow.texts import format_row, parse_row, same_text
 from breakerrow.trains import (Trains, count_before, latest_time, next_time, shared, split_after, thinned, time_count,
                                window)
 from tests.support import Case
@@ -179,3 +184,84 @@ class States(Case):
 
     def test_e229(self):
         self.assertEqual(time_open(self.tl, 0, 0, 100), 10)
+
+
+class RoutesOfTheDocument(Case):
+
+    def test_e06(self):
+        routes = Routes([(2, 5, 1)], [([], [(0, 100)]), ([], [])], [0, 0, 1], 1)
+        self.assertEqual([common_openings(routes, 8), served(routes, 8), longest_failure(routes, [0]),
+                          first_opening(routes, [0]), first_opening(routes, [1])],
+                         [[(1, 0), (6, 0)], [(0, 6), (0, 2)], 2, (1, [0]), None])
+
+
+class Texts(Case):
+
+    def test_e07(self):
+        self.assertEqual([format_row(Row([(2, 3, 1)], 10)), same_text('row 10 0', 'row 10 1')],
+                         ['row 10 0\nbreaker 2 3 1', False])
+
+    def test_e08(self):
+        self.assert_error(InvalidText, {"line": 1, "word": 2}, parse_row, 'row 10 0\nbreaker 2 x 1')
+
+    def test_e09(self):
+        self.assert_error(InvalidText, {"line": 0, "word": 2}, parse_row, 'row 10')
+
+
+class Logs(Case):
+
+    def setUp(self):
+        super().setUp()
+        self.log = log_of((2, 4, 1), [0, 1, 3, 6, 8, 9])
+
+    def test_e309(self):
+        self.assertEqual([self.log, explanations(self.log)],
+                         [[(0, True), (1, True), (3, False), (6, True), (8, False), (9, False)], [(2, 4, 5)]])
+
+    def test_e310(self):
+        self.assertEqual([first_conflict(self.log + [(10, False), (11, False)]), forecast(self.log, 10),
+                          forecast(self.log, 11)], [7, 'either', 'pass'])
+
+    def test_e311(self):
+        self.assertEqual(waits_of([1, 3, 6]), [(3, 3), (4, 6)])
+
+    def test_e312(self):
+        self.assert_error(InvalidLog, {"at": 1}, waits_of, [4, 6])
+
+
+class PlayingOfTheDocument(Case):
+
+    def setUp(self):
+        super().setUp()
+        self.p = Playing(Row([(2, 3, 1)], 1))
+
+    def test_e230(self):
+        self.assertEqual(self.p.request("down"), ('failed',))
+
+    def test_e231(self):
+        self.p.request("down"), self.p.request("down")
+        self.assertEqual(self.p.request("up"), ('rejected', 0))
+
+    def test_e232(self):
+        self.p.request("down"), self.p.request("down")
+        self.assertEqual(self.p.state_list(), [('open', 1)])
+
+    def test_e233(self):
+        self.assertIs(self.p.is_whole(), True)
+
+    def test_e234(self):
+        self.p.request("up")
+        self.assertEqual(self.p.log(), ['up'])
+
+    def test_e235(self):
+        self.assert_error(InvalidCall, {"call": "Up"}, self.p.request, "Up")
+
+    def test_e236(self):
+        self.assert_error(InvalidBound, {"part": "count"}, self.p.undo, 1)
+
+    def test_e237(self):
+        self.assertEqual(outcomes(Row([(1, 2, 1)], 1), ["down", "up", "up"]),
+                         [('failed',), ('rejected', 0), ('served',)])
+
+    def test_e238(self):
+        self.assert_error(InvalidLog, {"at": 1}, replay, Row([], 1), ["up", "no"])
